@@ -1,0 +1,1 @@
+"""Waitlists: which messages must be opened first."""
