@@ -102,3 +102,159 @@ def waitlist(run, node):
             if (message, receiver) not in opened and not later:
                 pairs.append((message, receiver))
     return sorted(pairs)
+
+
+def is_valid(nodes, run):
+    """Return whether a list of events of the right kinds is a run (point 8)."""
+    for index, (kind, node, detail) in enumerate(run):
+        if kind == "send":
+            if not detail or detail != sorted(set(detail)) or node in detail or not set(detail) <= set(nodes):
+                return False
+            continue
+        sends = sent_messages(run[:index])
+        if detail not in sends or node not in run[sends[detail]][2] or run[index] in run[:index]:
+            return False
+    return True
+
+
+def is_path(run, path):
+    """Return whether a list of indices is a path (point 9)."""
+    return len(path) > 0 and all(is_step(run, first, second) for first, second in zip(path, path[1:]))
+
+
+def label(nodes, run, node):
+    """Return the label of the node (point 13)."""
+    return (counts(nodes, run, node), waitlist(run, node))
+
+
+def label_after_send(nodes, old, node, receivers):
+    """Return the label of the node after a send, sentence by sentence (point 17)."""
+    counted = {other: old[0][other] for other in nodes}
+    counted[node] += 1
+    pairs = {pair for pair in old[1] if pair[1] not in receivers}
+    for receiver in receivers:
+        pairs.add(((node, counted[node]), receiver))
+    return (counted, sorted(pairs))
+
+
+def label_after_open(nodes, old, node, message, receivers, carried):
+    """Return the label of the node after an open, sentence by sentence (point 17)."""
+    counted = {other: max(old[0][other], carried[0][other]) for other in nodes}
+    counted[message[0]] = max(counted[message[0]], message[1])
+    pairs = set()
+    for pair in old[1]:
+        if pair[0][1] > carried[0][pair[0][0]] or pair in carried[1]:
+            pairs.add(pair)
+    for pair in carried[1]:
+        if pair[0][1] > old[0][pair[0][0]] or pair in old[1]:
+            pairs.add(pair)
+    pairs = {pair for pair in pairs if pair[1] != node}
+    pairs = {pair for pair in pairs if not (pair in carried[1] and pair[1] in receivers)}
+    for receiver in receivers:
+        if receiver != node:
+            pairs.add((message, receiver))
+    return (counted, sorted(pairs))
+
+
+def is_needing(nodes, run, node, pair, value):
+    """Return whether a list of events of the right kinds is a needing run (point 19)."""
+    message, receiver = pair
+    if len(value) < 2 or not is_valid(nodes, value):
+        return False
+    before = value[:-2]
+    own = 1 + sum(1 for event in before if event[:2] == ("send", node))
+    if value[-2:] != [("send", node, [receiver]), ("open", receiver, (node, own))]:
+        return False
+    if first_early(before) is not None or not same_past(nodes, run, before, node):
+        return False
+    if ("open", receiver, message) in value:
+        return False
+    others = [other for other, to in waitlist(run, node) if to == receiver and other != message]
+    return all(("open", receiver, other) in value for other in others)
+
+
+def last_event(run, node):
+    """Return the index of the last event of the node, or None."""
+    own = [index for index, event in enumerate(run) if event[1] == node]
+    return own[-1] if own else None
+
+
+def kinds_of_reasons(run, node, pair):
+    """Return the kinds of the reasons that apply, in the order of the document (point 20)."""
+    message, receiver = pair
+    sends = sent_messages(run)
+    before = earlier_events(run)
+    messages = known(run, node)
+    kinds = []
+    if message not in messages:
+        kinds.append("unknown")
+    if ("open", receiver, message) in [run[index] for index in past(run, node)]:
+        kinds.append("opened")
+    if [other for other in messages if receiver in run[sends[other]][2] and sends[message] in before[sends[other]]]:
+        kinds.append("covered")
+    return kinds
+
+
+def is_reason(run, node, pair, value):
+    """Return whether a tuple of the right kinds is a reason (point 20)."""
+    message, receiver = pair
+    sends = sent_messages(run)
+    last = last_event(run, node)
+    if value == ("unknown",):
+        return message not in known(run, node)
+    if last is None:
+        return False
+    if value[0] == "opened":
+        event = ("open", receiver, message)
+        path = value[1]
+        return event in run and is_path(run, path) and path[0] == run.index(event) and path[-1] == last
+    _, other, path, rest = value
+    if other == message or other not in sends or receiver not in run[sends[other]][2]:
+        return False
+    if not is_path(run, path) or not is_path(run, rest):
+        return False
+    return [path[0], path[-1], rest[0], rest[-1]] == [sends[message], sends[other], sends[other], last]
+
+
+class SlowNet:
+    """A net that looks at everything anew in each step (point 14); it records its run."""
+
+    def __init__(self, nodes):
+        self.nodes = nodes
+        self.run = []
+        self.arrived = []
+        self.carried = {}
+
+    def send(self, node, receivers):
+        """Let the node send its next message."""
+        message = (node, 1 + sum(1 for event in self.run if event[:2] == ("send", node)))
+        self.carried[message] = label(self.nodes, self.run, node)
+        self.run.append(("send", node, receivers))
+        return message
+
+    def blockers(self, message, node):
+        """Return the messages that the node must still open first."""
+        return sorted(other for other, to in self.carried[message][1]
+                      if to == node and ("open", node, other) not in self.run)
+
+    def held(self, node):
+        """Return the messages that have arrived at the node and are closed."""
+        return sorted(message for message, to in self.arrived
+                      if to == node and ("open", node, message) not in self.run)
+
+    def arrive(self, message, node):
+        """Let the message arrive; return what the node opens then."""
+        self.arrived.append((message, node))
+        opened = []
+        while True:
+            free = [other for other in self.held(node) if not self.blockers(other, node)]
+            if not free:
+                return opened
+            opened.append(free[0])
+            self.run.append(("open", node, free[0]))
+
+    def transit(self):
+        """Return what has not arrived."""
+        sends = sent_messages(self.run)
+        pairs = [(message, node) for message in sends for node in self.run[sends[message]][2]]
+        return sorted(pair for pair in pairs if pair not in self.arrived)

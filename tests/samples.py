@@ -1,8 +1,7 @@
-"""Values that several test files use: the document's run, odd values, random runs."""
-
-import random
+"""Values that several test files use: the document's run, odd values, runs and labels that are made by counting."""
 
 from tests import oracle
+from waitlists.errors import WaitError
 
 NODES = ["a", "b", "c"]
 
@@ -44,24 +43,51 @@ def odd_values():
     ]
 
 
-def random_run(seed, nodes, length, causal):
+class Choices:
+    """Choices that look mixed but are counted: the same ones each time, from the same start."""
+
+    def __init__(self, start):
+        self.state = 7919 * start + 1
+
+    def below(self, many):
+        """Return the next choice, an integer from 0 to `many` - 1."""
+        self.state = self.state * 48271 % 2147483647
+        return self.state // 64 % many
+
+    def one_of(self, values):
+        """Return one of the values."""
+        return values[self.below(len(values))]
+
+    def some_of(self, values, many):
+        """Return so many of the values, in their order."""
+        left = list(values)
+        while len(left) > many:
+            del left[self.below(len(left))]
+        return left
+
+
+def made_run(start, nodes, length, causal):
     """Return a run of so many events; if `causal`, one in which no open is too early."""
-    chance = random.Random(seed)
+    choices = Choices(start)
     run = []
     while len(run) < length:
         closed = closed_pairs(run)
-        if closed and chance.random() < 0.6:
-            message, node = chance.choice(closed)
+        if closed and choices.below(10) < 6:
+            message, node = choices.one_of(closed)
             event = ("open", node, message)
             if causal and not oracle.opens_in_order(run, message, node):
                 continue
         else:
-            node = chance.choice(nodes)
-            others = [other for other in nodes if other != node]
-            many = chance.choice([1, 1, 2, len(others)])
-            event = ("send", node, sorted(chance.sample(others, min(many, len(others)))))
+            node = choices.one_of(nodes)
+            event = ("send", node, made_receivers(choices, nodes, node))
         run.append(event)
     return run
+
+
+def made_receivers(choices, nodes, node):
+    """Return receivers of the node, often few and sometimes all others."""
+    others = [other for other in nodes if other != node]
+    return choices.some_of(others, choices.one_of([1, 1, 2, len(others)]))
 
 
 def closed_pairs(run):
@@ -72,12 +98,12 @@ def closed_pairs(run):
     return sorted(pair for pair in pairs if pair not in opened)
 
 
-def random_runs(causal):
+def made_runs(causal):
     """Return some (nodes, run) of few and of many nodes, short and long."""
     rows = []
-    for seed in range(60):
-        nodes = ["a", "b", "c", "d", "e"][:2 + seed % 4]
-        rows.append((nodes, random_run(seed, nodes, seed % 26, causal)))
+    for start in range(60):
+        nodes = ["a", "b", "c", "d", "e"][:2 + start % 4]
+        rows.append((nodes, made_run(start, nodes, start % 26, causal)))
     return rows
 
 
@@ -92,3 +118,31 @@ def long_run(nodes, length):
             run.append(("send", node, others))
             run.extend(("open", other, (node, numbers[node])) for other in others)
     return run[:length]
+
+
+def made_label(start, nodes):
+    """Return a label of the nodes, mostly one that no run has."""
+    choices = Choices(start)
+    size = choices.one_of([1, 2, 3, 3, 10 ** 17])
+    counts = {node: choices.below(size + 1) for node in nodes}
+    pairs = []
+    for sender in nodes:
+        for receiver in nodes:
+            for number in sorted({1, 2, 3, counts[sender]}):
+                if receiver != sender and 1 <= number <= counts[sender] and choices.below(3) == 0:
+                    pairs.append(((sender, number), receiver))
+    return (counts, sorted(pairs))
+
+
+def told(function, *arguments):
+    """Return the result of a call, or the class and the fields of the error that it raises."""
+    try:
+        return function(*arguments)
+    except WaitError as error:
+        return (error.__class__, vars(error))
+
+
+def all_pairs(run):
+    """Return the ascending list of the pairs of a run."""
+    sends = oracle.sent_messages(run)
+    return sorted((message, receiver) for message in sends for receiver in run[sends[message]][2])

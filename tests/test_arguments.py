@@ -3,23 +3,48 @@
 import copy
 import unittest
 
-from tests.samples import NODES, early_run, random_runs, sample_run
-from waitlists.errors import WaitError
+from tests.samples import NODES, early_run, made_runs, sample_run, told
+from waitlists.errors import InvalidRun, WaitError
+from waitlists.labels import is_label, label_after_open, label_after_send, start_label
 from waitlists.lists import known_counts, label_of_message, waitlist_of
+from waitlists.needs import is_needing_run, needing_run
 from waitlists.order import (first_early_open, happens_before, is_causal, is_path, past_events, path_between,
                              same_past)
+from waitlists.reasons import is_reason, reason_for
 from waitlists.runs import is_nodes, is_run, messages_of, open_index, send_index
 
 
 def all_calls(nodes, run):
-    """Return calls of all functions of the four files, as (function, arguments)."""
+    """Return calls of all functions of the files, as (function, arguments)."""
+    pair = (("a", 1), "c")
+    label, carried = ({"a": 1, "b": 0, "c": 0}, [pair]), ({"c": 0, "b": 0, "a": 2}, [pair, (("a", 2), "b")])
     return [
         (is_nodes, (nodes,)), (is_run, (nodes, run)), (messages_of, (nodes, run)), (send_index, (nodes, run, ("a", 1))),
         (open_index, (nodes, run, ("a", 2), "b")), (happens_before, (nodes, run, 0, 3)), (past_events, (nodes, run, "b")),
         (path_between, (nodes, run, 0, 3)), (path_between, (nodes, run, 2, 2)), (is_path, (nodes, run, [1, 2, 3])),
         (same_past, (nodes, run, run[:2], "a")), (first_early_open, (nodes, run)), (is_causal, (nodes, run)),
         (known_counts, (nodes, run, "b")), (waitlist_of, (nodes, run, "b")), (label_of_message, (nodes, run, ("b", 1))),
+        (is_label, (nodes, label)), (is_label, (nodes, [run])), (start_label, (nodes,)),
+        (label_after_send, (nodes, label, "b", ["a"])), (label_after_send, (nodes, label, "b", ["b", "a"])),
+        (label_after_open, (nodes, label, "c", ("a", 2), ["b", "c"], carried)),
+        (label_after_open, (nodes, label, "b", ("a", 2), ["b"], carried)),
+        (needing_run, (nodes, run, "a", pair)), (needing_run, (nodes, run, "b", pair)),
+        (is_needing_run, (nodes, run, "a", pair, run[:2] + [("send", "a", ["c"]), ("open", "c", ("a", 3))])),
+        (reason_for, (nodes, run, "b", pair)), (reason_for, (nodes, run, "b", (("a", 2), "b"))),
+        (is_reason, (nodes, run, "b", pair, ("covered", ("b", 1), [0, 1, 2, 3], [3]))),
     ]
+
+
+def answered_calls(nodes, run):
+    """Return those of the calls that raise no error."""
+    calls = []
+    for function, arguments in all_calls(nodes, run):
+        try:
+            function(*arguments)
+        except WaitError:
+            continue
+        calls.append((function, arguments))
+    return calls
 
 
 def lists_and_dicts(value):
@@ -68,7 +93,9 @@ class ArgumentsTest(unittest.TestCase):
 
     def test_results_are_new(self):
         run = sample_run()
-        for function, arguments in all_calls(NODES, run):
+        calls = answered_calls(NODES, run)
+        self.assertEqual(len({function for function, _ in calls}), 23)
+        for function, arguments in calls:
             first = function(*arguments)
             expected = copy.deepcopy(first)
             second = function(*arguments)
@@ -88,12 +115,12 @@ class ArgumentsTest(unittest.TestCase):
         self.assertNotIn(id(receivers), ids(found))
 
     def test_run_that_is_changed_in_place(self):
-        rows = [run for nodes, run in random_runs(True) if nodes == NODES and len(run) > 1]
+        rows = [run for nodes, run in made_runs(True) if nodes == NODES and len(run) > 1]
         kept = []
         for run in [sample_run(), early_run()] + rows:
             kept[:] = copy.deepcopy(run)
             for function, arguments in all_calls(NODES, kept):
-                self.assertEqual(self.told(function, arguments), self.told(function, copy.deepcopy(arguments)))
+                self.assertEqual(told(function, *arguments), told(function, *copy.deepcopy(arguments)))
 
     def test_receivers_that_are_changed_in_place(self):
         run = sample_run()
@@ -104,6 +131,19 @@ class ArgumentsTest(unittest.TestCase):
         run[3][2].append("b")
         self.assertIs(is_run(NODES, run), False)
 
+    def test_numbers_that_are_changed_in_place(self):
+        run = sample_run()
+        self.assertEqual(path_between(NODES, run, 0, 2), [0, 1, 2])
+        run[1][2][0] = "c"
+        self.assertIs(is_run(NODES, run), False)
+        run[0][2][0] = "b"
+        run[2] = ("open", "b", ("a", 1))
+        self.assertEqual(path_between(NODES, run, 0, 2), [0, 2])
+        run[2] = ("open", "b", ("a", True))
+        for function, arguments in answered_calls(NODES, sample_run()):
+            if function not in (is_nodes, is_run, is_label, start_label, label_after_send, label_after_open):
+                self.assertIs(told(function, *(arguments[:1] + (run,) + arguments[2:]))[0], InvalidRun)
+
     def test_nodes_that_are_changed_in_place(self):
         nodes = ["a", "b", "c"]
         self.assertEqual(list(known_counts(nodes, sample_run(), "a")), ["a", "b", "c"])
@@ -111,13 +151,6 @@ class ArgumentsTest(unittest.TestCase):
         self.assertEqual(list(known_counts(nodes, sample_run(), "a")), ["a", "b", "c", "d"])
         nodes.reverse()
         self.assertIs(is_nodes(nodes), False)
-
-    def told(self, function, arguments):
-        """Return the result of a call, or the error with its fields."""
-        try:
-            return function(*arguments)
-        except WaitError as error:
-            return (error.__class__, vars(error))
 
 
 if __name__ == "__main__":

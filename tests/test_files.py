@@ -30,7 +30,8 @@ class FilesTest(unittest.TestCase):
         names = [os.path.relpath(path, FOLDER) for path in package_files()]
         for name in names:
             self.assertRegex(name, r"^[a-z_][a-z0-9_]*\.py$")
-        for name in ("__init__.py", "errors.py", "runs.py", "order.py", "lists.py"):
+        for name in ("__init__.py", "errors.py", "runs.py", "order.py", "lists.py", "labels.py", "nets.py", "needs.py",
+                     "reasons.py"):
             self.assertIn(name, names)
 
     def test_characters(self):
@@ -65,16 +66,19 @@ class FilesTest(unittest.TestCase):
             for part in ast.walk(ast.parse(read(path))):
                 self.assertNotIsInstance(part, ast.Import, path)
                 if isinstance(part, ast.ImportFrom):
-                    self.assertEqual((part.level, part.module.split(".")[0]), (0, "waitlists"), path)
+                    self.assertEqual(part.level, 0, path)
+                    self.assertIn(part.module.split(".")[0], ("waitlists", "heapq"), path)
 
     def test_interface_is_defined_in_its_files(self):
         for name, expected in (
                 ("runs", ["is_nodes", "is_run", "messages_of", "open_index", "send_index"]),
                 ("order", ["first_early_open", "happens_before", "is_causal", "is_path", "past_events", "path_between",
                            "same_past"]),
-                ("lists", ["known_counts", "label_of_message", "waitlist_of"])):
+                ("lists", ["known_counts", "label_of_message", "waitlist_of"]),
+                ("labels", ["is_label", "label_after_open", "label_after_send", "start_label"]), ("nets", ["Net"]),
+                ("needs", ["is_needing_run", "needing_run"]), ("reasons", ["is_reason", "reason_for"])):
             body = ast.parse(read(os.path.join(FOLDER, name + ".py"))).body
-            defined = [part.name for part in body if isinstance(part, ast.FunctionDef)]
+            defined = [part.name for part in body if isinstance(part, (ast.FunctionDef, ast.ClassDef))]
             self.assertEqual(sorted(set(expected) - set(defined)), [], name)
 
 

@@ -3,7 +3,7 @@
 import unittest
 
 from tests import oracle
-from tests.samples import NODES, early_run, odd_values, random_runs, sample_run
+from tests.samples import NODES, early_run, odd_values, made_runs, sample_run
 from waitlists.errors import InvalidNodes, InvalidRun, NotCausal, UnknownMessage, UnknownNode
 from waitlists.lists import known_counts, label_of_message, waitlist_of
 
@@ -28,8 +28,8 @@ class CountsTest(unittest.TestCase):
         run = [("send", "c", ["b"]), ("open", "b", ("c", 1)), ("send", "b", ["a"])]
         self.assertEqual(list(known_counts(NODES, run, "b").items()), [("a", 0), ("b", 1), ("c", 1)])
 
-    def test_random_runs(self):
-        for nodes, run in random_runs(True):
+    def test_made_runs(self):
+        for nodes, run in made_runs(True):
             for node in nodes:
                 found = known_counts(nodes, run, node)
                 self.assertEqual(found, oracle.counts(nodes, run, node))
@@ -72,9 +72,9 @@ class WaitlistTest(unittest.TestCase):
         run = [("send", "a", ["b"])] * 2 + [("send", "a", ["b", "c"])] + [("send", "a", ["b"])] * 8
         self.assertEqual(waitlist_of(NODES, run, "a"), [(("a", 3), "c"), (("a", 11), "b")])
 
-    def test_random_runs(self):
+    def test_made_runs(self):
         sizes = []
-        for nodes, run in random_runs(True):
+        for nodes, run in made_runs(True):
             for node in nodes:
                 found = waitlist_of(nodes, run, node)
                 self.assertEqual(found, oracle.waitlist(run, node))
@@ -85,7 +85,7 @@ class WaitlistTest(unittest.TestCase):
 class SizeTest(unittest.TestCase):
 
     def test_each_waitlist_is_small(self):
-        for nodes, run in random_runs(True):
+        for nodes, run in made_runs(True):
             for node in nodes:
                 found = waitlist_of(nodes, run, node)
                 self.assertNotIn(node, [receiver for _, receiver in found])
@@ -117,8 +117,8 @@ class LabelTest(unittest.TestCase):
         self.assertEqual(label_of_message(NODES, run, ("b", 1)), ({"a": 2, "b": 0, "c": 0}, [(("a", 1), "c")]))
         self.assertEqual(label_of_message(NODES, run, ("c", 1)), ({"a": 1, "b": 0, "c": 0}, []))
 
-    def test_random_runs(self):
-        for nodes, run in random_runs(True):
+    def test_made_runs(self):
+        for nodes, run in made_runs(True):
             for message, sent in oracle.sent_messages(run).items():
                 label = label_of_message(nodes, run, message)
                 self.assertIsInstance(label, tuple)

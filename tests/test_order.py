@@ -3,7 +3,7 @@
 import unittest
 
 from tests import oracle
-from tests.samples import NODES, early_run, odd_values, random_runs, sample_run
+from tests.samples import NODES, early_run, odd_values, made_runs, sample_run
 from waitlists.errors import InvalidIndex, InvalidNodes, InvalidRun, UnknownNode
 from waitlists.order import (first_early_open, happens_before, is_causal, is_path, past_events, path_between,
                              same_past)
@@ -30,9 +30,9 @@ class HappensBeforeTest(unittest.TestCase):
         run = [("send", "a", ["b"]), ("send", "b", ["a"])]
         self.assertIs(happens_before(NODES, run, 0, 1), False)
 
-    def test_random_runs(self):
+    def test_made_runs(self):
         for causal in (True, False):
-            for nodes, run in random_runs(causal)[::3]:
+            for nodes, run in made_runs(causal)[::3]:
                 before = oracle.earlier_events(run)
                 for first in range(len(run)):
                     for second in range(len(run)):
@@ -54,9 +54,9 @@ class PastTest(unittest.TestCase):
         self.assertEqual(past_events(NODES, run, "b"), [0, 1, 2, 3])
         self.assertEqual(past_events(NODES, run, "c"), [0, 5])
 
-    def test_random_runs(self):
+    def test_made_runs(self):
         for causal in (True, False):
-            for nodes, run in random_runs(causal):
+            for nodes, run in made_runs(causal):
                 for node in nodes:
                     self.assertEqual(past_events(nodes, run, node), sorted(oracle.past(run, node)))
 
@@ -79,9 +79,9 @@ class PathTest(unittest.TestCase):
         run = [("send", "c", ["b"]), ("send", "a", ["b"]), ("open", "b", ("a", 1)), ("open", "b", ("c", 1))]
         self.assertEqual(path_between(NODES, run, 1, 3), [1, 2, 3])
 
-    def test_random_runs(self):
+    def test_made_runs(self):
         for causal in (True, False):
-            for nodes, run in random_runs(causal)[::3]:
+            for nodes, run in made_runs(causal)[::3]:
                 before = oracle.earlier_events(run)
                 for first in range(len(run)):
                     for second in range(len(run)):
@@ -158,8 +158,8 @@ class SamePastTest(unittest.TestCase):
         runs = [sends + [("open", "b", ("a", 1))], sends + [("open", "b", ("a", 2))]]
         self.assertIs(same_past(NODES, runs[0], runs[1], "b"), False)
 
-    def test_random_runs(self):
-        rows = random_runs(False)
+    def test_made_runs(self):
+        rows = made_runs(False)
         for at, (nodes, run) in enumerate(rows):
             others = [run[:len(run) // 2], run[:-1], list(run)] + [row[1] for row in rows[at:at + 9] if row[0] == nodes]
             for other in others:
@@ -202,12 +202,12 @@ class EarlyTest(unittest.TestCase):
         run = [("send", "a", ["b", "c"]), ("send", "a", ["c"]), ("open", "b", ("a", 1)), ("open", "c", ("a", 2))]
         self.assertEqual(first_early_open(NODES, run), 3)
 
-    def test_random_runs(self):
-        for nodes, run in random_runs(True):
+    def test_made_runs(self):
+        for nodes, run in made_runs(True):
             self.assertIsNone(first_early_open(nodes, run))
             self.assertIs(is_causal(nodes, run), True)
         found = []
-        for nodes, run in random_runs(False):
+        for nodes, run in made_runs(False):
             found.append(oracle.first_early(run))
             self.assertEqual(first_early_open(nodes, run), found[-1])
             self.assertIs(is_causal(nodes, run), found[-1] is None)

@@ -3,7 +3,7 @@
 import unittest
 
 from tests import oracle
-from tests.samples import NODES, odd_values, random_runs, sample_run
+from tests.samples import NODES, odd_values, made_runs, sample_run
 from waitlists.errors import InvalidNodes, InvalidRun, UnknownMessage, UnknownNode
 from waitlists.runs import is_nodes, is_run, messages_of, open_index, send_index
 
@@ -28,6 +28,8 @@ class NodesTest(unittest.TestCase):
         for name in ("", "bcdefghij", "B", "b1", "b b", "b_", "b\n", "`", "{", "\u00e9", "\uff42", b"b", 1, None, ["b"]):
             self.assertIs(is_nodes(["a", name]), False, name)
         self.assertIs(is_nodes(["a", "bcdefghi"]), True)
+        for value in (["A", "B"], ["A", "b"], ["a", "bC"], ["1", "a"], ["a", "b1"], [" ", "a"], ["a", "a b"], ["a", "\u00e9e"]):
+            self.assertIs(is_nodes(value), False, value)
 
     def test_tuple_is_not_a_list(self):
         self.assertIs(is_nodes(("a", "b")), False)
@@ -45,10 +47,10 @@ class RunTest(unittest.TestCase):
     def test_empty_run(self):
         self.assert_run(True)
 
-    def test_sample_and_random_runs(self):
+    def test_sample_and_made_runs(self):
         self.assertIs(is_run(NODES, sample_run()), True)
         for causal in (True, False):
-            for nodes, run in random_runs(causal):
+            for nodes, run in made_runs(causal):
                 self.assertIs(is_run(nodes, run), True)
 
     def test_send(self):
@@ -59,6 +61,26 @@ class RunTest(unittest.TestCase):
             self.assert_run(False, ("send", "a", receivers))
         for node in ("d", "", "A", None, 1, True, ["a"], ("a",), {}, b"a"):
             self.assert_run(False, ("send", node, ["b"]))
+
+    def test_wrong_send_after_a_right_one(self):
+        for receivers in (["b"], ["b", "c"]):
+            send = ("send", "a", receivers)
+            self.assert_run(True, send, ("send", "a", list(receivers)), ("send", "a", ["c"]), send)
+            self.assert_run(False, send, ("send", "b", receivers))
+            for wrong in (tuple(receivers), receivers + ["b"], receivers[::-1] + ["a"], receivers + [True], [], None, "b",
+                          {"b": 1}, [["b"]], receivers + [None], [b"b"]):
+                self.assert_run(False, send, ("send", "a", wrong))
+                self.assert_run(False, send, send, ("send", "a", wrong), send)
+            self.assert_run(False, send, ["send", "a", receivers])
+
+    def test_many_receivers(self):
+        for at in range(11):
+            receivers = ALL_TWELVE[1:]
+            self.assert_run(True, ("send", "a", receivers), ("send", "a", receivers), nodes=ALL_TWELVE)
+            receivers[at] = "a"
+            self.assert_run(False, ("send", "a", ALL_TWELVE[1:]), ("send", "a", receivers), nodes=ALL_TWELVE)
+            receivers[at] = "m"
+            self.assert_run(False, ("send", "a", ALL_TWELVE[1:]), ("send", "a", receivers), nodes=ALL_TWELVE)
 
     def test_open(self):
         send = ("send", "a", ["b"])
@@ -134,8 +156,8 @@ class MessagesTest(unittest.TestCase):
         expected = [("a", number) for number in range(1, 12)] + [("b", 1)]
         self.assertEqual(list(messages_of(NODES, run)), expected)
 
-    def test_random_runs(self):
-        for nodes, run in random_runs(False):
+    def test_made_runs(self):
+        for nodes, run in made_runs(False):
             sends = oracle.sent_messages(run)
             found = messages_of(nodes, run)
             self.assertEqual(found, {message: run[sends[message]][2] for message in sends})
@@ -170,8 +192,8 @@ class IndexTest(unittest.TestCase):
         run = [("send", "a", ["b", "c"]), ("open", "c", ("a", 1)), ("open", "b", ("a", 1))]
         self.assertEqual([open_index(NODES, run, ("a", 1), node) for node in ("b", "c")], [2, 1])
 
-    def test_random_runs(self):
-        for nodes, run in random_runs(False):
+    def test_made_runs(self):
+        for nodes, run in made_runs(False):
             for message, sent in oracle.sent_messages(run).items():
                 self.assertEqual(send_index(nodes, run, message), sent)
                 for node in nodes:

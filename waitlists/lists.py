@@ -1,73 +1,64 @@
 """Counts, waitlists and labels of the nodes of a causal run (points 12 and 13)."""
 
-from waitlists.history import History
 from waitlists.order import check_causal
-from waitlists.runs import check_message, check_node, send_indices
+from waitlists.runs import check_message, check_node
 
 
 def known_counts(nodes, run, node):
     """Return the counts of the node."""
-    check_causal(nodes, run)
+    history = check_causal(nodes, run)
     check_node(nodes, node)
-    return counts_at(History(nodes, run), node)
+    return counts_in(history, history.last_pasts[node])
 
 
 def waitlist_of(nodes, run, node):
     """Return the waitlist of the node."""
-    check_causal(nodes, run)
+    history = check_causal(nodes, run)
     check_node(nodes, node)
-    return waitlist_at(History(nodes, run), node)
+    return waitlist_in(history, history.last_pasts[node])
 
 
 def label_of_message(nodes, run, message):
     """Return the label that the message carries."""
-    check_causal(nodes, run)
-    check_message(nodes, run, message)
-    sender = message[0]
-    history = History(nodes, run[:send_indices(run)[message]])
-    return (counts_at(history, sender), waitlist_at(history, sender))
+    history = check_causal(nodes, run)
+    past = history.past_before(check_message(history.sends, message))
+    return (counts_in(history, past), waitlist_in(history, past))
 
 
-def counts_at(history, node):
-    """Return a dict from each node to how many of its messages the given node knows."""
-    counts = {sender: 0 for sender in history.nodes}
-    for (sender, _), index in history.sends.items():
-        if history.is_past(index, node):
-            counts[sender] += 1
-    return counts
+def counts_in(history, past):
+    """Return a dict from each node to how many of its sends are in the past of a node, a mask."""
+    return {node: sum([past >> index & 1 for index in history.sends[node]]) for node in history.nodes}
 
 
-def waitlist_at(history, node):
-    """Return the waitlist of the node in the run of the history."""
+def waitlist_in(history, past):
+    """Return the waitlist of a node with this past, a mask."""
+    entries = _last_sends(history, past)
+    covered = {node: 0 for node in history.nodes}
+    for _, index, receiver in entries:
+        covered[receiver] |= history.past_before(index)
     pairs = []
-    for receiver in history.nodes:
-        sends = _last_known_sends(history, node, receiver)
-        for index in sends:
-            message = history.messages[index]
-            if not _knows_open(history, node, message, receiver) and not _is_covered(history, index, sends):
-                pairs.append((message, receiver))
+    for message, index, receiver in entries:
+        opened = history.opens[receiver].get(index)
+        if not covered[receiver] >> index & 1 and (opened is None or not past >> opened & 1):
+            pairs.append((message, receiver))
     return sorted(pairs)
 
 
-def _last_known_sends(history, node, receiver):
-    """Return the indices of the sends to the receiver that the node knows, only the last one of each sender.
+def _last_sends(history, past):
+    """Return (message, index of its send, receiver) of the last message in the past of each sender to each receiver.
 
     The earlier ones of a sender happen before its last one, so none of them is in the waitlist.
     Whatever happens before one of them happens before the last one, too.
     """
-    last = {}
-    for (sender, _), index in history.sends.items():
-        if receiver in history.run[index][2] and history.is_past(index, node):
-            last[sender] = index
-    return list(last.values())
-
-
-def _knows_open(history, node, message, receiver):
-    """Return whether the open of the message by the receiver is in the past of the node."""
-    index = history.opens.get((message, receiver))
-    return index is not None and history.is_past(index, node)
-
-
-def _is_covered(history, index, sends):
-    """Return whether the send with this index happens before one of these sends."""
-    return any(history.precedes(index, later) for later in sends)
+    entries = []
+    for sender, count in counts_in(history, past).items():
+        done = {}
+        number = count
+        while number > 0 and len(done) < len(history.nodes) - 1:
+            index = history.sends[sender][number - 1]
+            for receiver in history.run[index][2]:
+                if receiver not in done:
+                    done[receiver] = True
+                    entries.append(((sender, number), index, receiver))
+            number -= 1
+    return entries

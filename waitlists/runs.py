@@ -1,72 +1,51 @@
 """Nodes, messages and runs (points 2 and 6 to 8)."""
 
-from waitlists.errors import InvalidNodes, InvalidRun, UnknownMessage, UnknownNode
+from waitlists.errors import InvalidNodes, InvalidPair, InvalidReceivers, InvalidRun, UnknownMessage, UnknownNode
 
 
 def is_nodes(value):
     """Return whether any value is a list of nodes."""
     if not isinstance(value, list) or not 2 <= len(value) <= 12:
         return False
-    return all(is_name(entry) for entry in value) and is_ascending(value)
+    previous = ""
+    for entry in value:
+        if not isinstance(entry, str) or entry <= previous or len(entry) > 8:
+            return False
+        previous = entry
+    letters = "".join(value)
+    return letters.isascii() and letters.isalpha() and letters.islower()
 
 
 def is_run(nodes, value):
     """Return whether any value is a run of the nodes."""
     check_nodes(nodes)
-    if not isinstance(value, list):
-        return False
-    receivers_of = {}
-    sent = {node: 0 for node in nodes}
-    opened = set()
-    for event in value:
-        if not is_event(nodes, event):
-            return False
-        kind, node, detail = event
-        if kind == "send":
-            sent[node] += 1
-            receivers_of[(node, sent[node])] = detail
-        elif node not in receivers_of.get(detail, []) or (detail, node) in opened:
-            return False
-        else:
-            opened.add((detail, node))
-    return True
+    return read_run(nodes, value) is not None
 
 
 def messages_of(nodes, run):
     """Return a dict from each message of the run to the list of its receivers."""
-    check_run(nodes, run)
-    sends = send_indices(run)
-    return {message: list(run[sends[message]][2]) for message in sorted(sends)}
+    sends, _ = check_run(nodes, run)
+    return {(node, number): run[index][2][:]
+            for node in nodes for number, index in enumerate(sends[node], start=1)}
 
 
 def send_index(nodes, run, message):
     """Return the index of the event that sends the message."""
-    check_run(nodes, run)
-    check_message(nodes, run, message)
-    return send_indices(run)[message]
+    sends, _ = check_run(nodes, run)
+    return check_message(sends, message)
 
 
 def open_index(nodes, run, message, node):
     """Return the index of the event in which the node opens the message, or None."""
-    check_run(nodes, run)
-    check_message(nodes, run, message)
+    sends, opens = check_run(nodes, run)
+    sent = check_message(sends, message)
     check_node(nodes, node)
-    for index, event in enumerate(run):
-        if event == ("open", node, message):
-            return index
-    return None
+    return opens[node].get(sent)
 
 
 def is_integer(value):
     """Return whether any value is an integer, which a truth value is not."""
     return isinstance(value, int) and not isinstance(value, bool)
-
-
-def is_name(value):
-    """Return whether any value is a name."""
-    if not isinstance(value, str) or not 1 <= len(value) <= 8:
-        return False
-    return all("a" <= letter <= "z" for letter in value)
 
 
 def is_node(nodes, value):
@@ -80,12 +59,15 @@ def is_ascending(values):
 
 
 def is_receivers(nodes, node, value):
-    """Return whether any value is a list of receivers of the node."""
+    """Return whether any value is a list of receivers of the node; the nodes may also be the keys of a dict."""
     if not isinstance(value, list) or not value:
         return False
-    if not all(is_node(nodes, entry) for entry in value):
-        return False
-    return is_ascending(value) and node not in value
+    previous = ""
+    for entry in value:
+        if not isinstance(entry, str) or entry not in nodes or entry <= previous or entry == node:
+            return False
+        previous = entry
+    return True
 
 
 def is_message(nodes, value):
@@ -95,35 +77,56 @@ def is_message(nodes, value):
     return is_node(nodes, value[0]) and is_integer(value[1]) and value[1] >= 1
 
 
-def is_event(nodes, value):
-    """Return whether any value has the form of an event, whatever was sent before it."""
-    if not isinstance(value, tuple) or len(value) != 3:
-        return False
-    kind, node, detail = value
-    if not isinstance(kind, str) or not is_node(nodes, node):
-        return False
-    if kind == "send":
-        return is_receivers(nodes, node, detail)
-    return kind == "open" and is_message(nodes, detail)
+def find_send(sends, value):
+    """Return the index of the send of any value that is a message, or None; `sends` is that of `read_run`."""
+    if not isinstance(value, tuple) or len(value) != 2:
+        return None
+    sender, number = value
+    if not isinstance(sender, str) or sender not in sends or not isinstance(number, int) or number is True:
+        return None
+    own = sends[sender]
+    return own[number - 1] if 0 < number <= len(own) else None
 
 
-def event_messages(run):
-    """Return the message that each event of a valid run sends or opens."""
-    sent = {}
-    messages = []
-    for kind, node, detail in run:
+def read_run(nodes, value):
+    """Return the sends and the opens of any value that is a run, as two dicts, or None if it is not.
+
+    The first dict has for each node the list of the indices of its sends. The second one has for
+    each node a dict: from the index of the send of each message that it opens to that of the open.
+    """
+    if not isinstance(value, list):
+        return None
+    sends = {node: [] for node in nodes}
+    opens = {node: {} for node in nodes}
+    for index, event in enumerate(value):
+        if not isinstance(event, tuple) or len(event) != 3:
+            return None
+        kind, node, detail = event
         if kind == "send":
-            sent[node] = sent.get(node, 0) + 1
-            messages.append((node, sent[node]))
+            if not isinstance(node, str) or node not in sends:
+                return None
+            own = sends[node]
+            # Nodes often send to the same receivers again: comparing lists takes less time than checking one.
+            if (not own or detail != value[own[-1]][2]) and not is_receivers(sends, node, detail):
+                return None
+            own.append(index)
+        elif kind == "open":
+            # As find_send does it, but written out: a call for each open takes time.
+            if not isinstance(detail, tuple) or len(detail) != 2:
+                return None
+            sender, number = detail
+            if not isinstance(sender, str) or sender not in sends or not isinstance(number, int) or number is True:
+                return None
+            own = sends[sender]
+            if not 0 < number <= len(own):
+                return None
+            sent = own[number - 1]
+            if node not in value[sent][2] or sent in opens[node]:
+                return None
+            opens[node][sent] = index
         else:
-            messages.append(detail)
-    return messages
-
-
-def send_indices(run):
-    """Return a dict from each message of a valid run to the index of its send, in the order of time."""
-    messages = event_messages(run)
-    return {messages[index]: index for index, event in enumerate(run) if event[0] == "send"}
+            return None
+    return (sends, opens)
 
 
 def check_nodes(nodes):
@@ -133,9 +136,12 @@ def check_nodes(nodes):
 
 
 def check_run(nodes, run):
-    """Raise InvalidNodes, then InvalidRun, if the values are not nodes and a run of them."""
-    if not is_run(nodes, run):
+    """Return what `read_run` returns; raise InvalidNodes, then InvalidRun, if these are not nodes and a run of them."""
+    check_nodes(nodes)
+    events = read_run(nodes, run)
+    if events is None:
         raise InvalidRun("a run is a list of sends and of opens of messages that were sent to the node")
+    return events
 
 
 def check_node(nodes, node):
@@ -144,7 +150,24 @@ def check_node(nodes, node):
         raise UnknownNode("this is not one of the nodes")
 
 
-def check_message(nodes, run, message):
-    """Raise UnknownMessage if the value is not a message of the valid run."""
-    if not is_message(nodes, message) or message not in send_indices(run):
+def check_receivers(nodes, node, receivers):
+    """Raise InvalidReceivers if the value is not a list of receivers of the node."""
+    if not is_receivers(nodes, node, receivers):
+        raise InvalidReceivers("receivers are a list of other nodes in ascending order without duplicates")
+
+
+def check_message(sends, message):
+    """Return the index of the send of the message; raise UnknownMessage if the value is not a message of the run."""
+    sent = find_send(sends, message)
+    if sent is None:
         raise UnknownMessage("this is not a message of the run")
+    return sent
+
+
+def check_pair(sends, run, pair):
+    """Return the index of the send of the message of the pair; raise InvalidPair if it is not a pair of the run."""
+    if isinstance(pair, tuple) and len(pair) == 2:
+        sent = find_send(sends, pair[0])
+        if sent is not None and pair[1] in run[sent][2]:
+            return sent
+    raise InvalidPair("this is not a message of the run with one of its receivers")
