@@ -1,5 +1,7 @@
 """The points of the document, word by word and slowly, to compare the package with. Nothing here is from the package."""
 
+from itertools import permutations
+
 
 def sent_messages(run):
     """Return a dict from each message to the index of its send."""
@@ -214,6 +216,42 @@ def is_reason(run, node, pair, value):
     if not is_path(run, path) or not is_path(run, rest):
         return False
     return [path[0], path[-1], rest[0], rest[-1]] == [sends[message], sends[other], sends[other], last]
+
+
+def closed(run, node):
+    """Return the closed messages of the node (point 22)."""
+    sends = sent_messages(run)
+    return sorted(message for message, sent in sends.items()
+                  if node in run[sent][2] and ("open", node, message) not in run)
+
+
+def is_opening(run, node, order):
+    """Return whether a list of messages is an order of opening of the node in a causal run (point 22)."""
+    opened = run + [("open", node, message) for message in order]
+    return sorted(order) == closed(run, node) and not any(is_early(opened, k) for k in range(len(run), len(opened)))
+
+
+def openings(run, node):
+    """Return the ascending list of all orders of opening of the node in a causal run (point 22)."""
+    return [list(order) for order in permutations(closed(run, node)) if is_opening(run, node, list(order))]
+
+
+def message_text(message):
+    """Return the text of a message (point 23)."""
+    return message[0] + "." + str(message[1])
+
+
+def pairs_text(pairs):
+    """Return the text of a list of pairs (point 23)."""
+    return " ".join(message_text(message) + ">" + receiver for message, receiver in pairs)
+
+
+def run_text(run):
+    """Return the text of a run (point 23)."""
+    words = []
+    for kind, node, detail in run:
+        words.append(node + ">" + ",".join(detail) if kind == "send" else node + "<" + message_text(detail))
+    return " ".join(words)
 
 
 class SlowNet:

@@ -1,5 +1,7 @@
 """Values that several test files use: the document's run, odd values, runs and labels that are made by counting."""
 
+import copy
+
 from tests import oracle
 from waitlists.errors import WaitError
 
@@ -140,6 +142,16 @@ def told(function, *arguments):
         return function(*arguments)
     except WaitError as error:
         return (error.__class__, vars(error))
+
+
+def assert_error(test, error, function, *arguments):
+    """Assert that a call raises the error, of its own class alone, and leaves its arguments as they are."""
+    before = copy.deepcopy(arguments)
+    with test.assertRaises(error) as caught:
+        function(*arguments)
+    test.assertIs(caught.exception.__class__, error)
+    test.assertEqual([error.__bases__, WaitError.__bases__], [(WaitError,), (ValueError,)])
+    test.assertEqual(arguments, before)
 
 
 def all_pairs(run):

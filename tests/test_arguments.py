@@ -8,10 +8,17 @@ from waitlists.errors import InvalidRun, WaitError
 from waitlists.labels import is_label, label_after_open, label_after_send, start_label
 from waitlists.lists import known_counts, label_of_message, waitlist_of
 from waitlists.needs import is_needing_run, needing_run
+from waitlists.openings import (closed_messages, count_openings, is_opening, longest_run, longest_size, next_opens,
+                                nth_opening)
 from waitlists.order import (first_early_open, happens_before, is_causal, is_path, past_events, path_between,
                              same_past)
+from waitlists.proposals import harmful_run, missing_pairs, spare_pairs
 from waitlists.reasons import is_reason, reason_for
 from waitlists.runs import is_nodes, is_run, messages_of, open_index, send_index
+from waitlists.texts import read_pairs, read_run, show_pairs, show_run
+
+WITHOUT_RUN = (is_nodes, is_run, is_label, start_label, label_after_send, label_after_open, longest_size, longest_run,
+               read_run, show_pairs, read_pairs)
 
 
 def all_calls(nodes, run):
@@ -32,6 +39,15 @@ def all_calls(nodes, run):
         (is_needing_run, (nodes, run, "a", pair, run[:2] + [("send", "a", ["c"]), ("open", "c", ("a", 3))])),
         (reason_for, (nodes, run, "b", pair)), (reason_for, (nodes, run, "b", (("a", 2), "b"))),
         (is_reason, (nodes, run, "b", pair, ("covered", ("b", 1), [0, 1, 2, 3], [3]))),
+        (missing_pairs, (nodes, run, "a", [(("a", 2), "b"), (("b", 1), "c")])), (missing_pairs, (nodes, run, "a", [])),
+        (spare_pairs, (nodes, run, "b", [pair, (("b", 1), "c")])), (spare_pairs, (nodes, run, "b", [pair, pair])),
+        (harmful_run, (nodes, run, "a", [(("a", 2), "b")])), (harmful_run, (nodes, run, "b", [(("b", 1), "c")])),
+        (next_opens, (nodes, run)), (closed_messages, (nodes, run, "c")),
+        (is_opening, (nodes, run, "c", [("a", 1), ("b", 1)])), (is_opening, (nodes, run, "c", [[run], {"a": []}])),
+        (count_openings, (nodes, run, "c")), (nth_opening, (nodes, run, "c", 0)), (nth_opening, (nodes, run, "c", 1)),
+        (longest_size, (nodes,)), (longest_run, (nodes, "b")), (show_run, (nodes, run)),
+        (read_run, (nodes, "a>b,c c<a.1 b>a")), (show_pairs, (nodes, [pair, (("a", 2), "b")])),
+        (show_pairs, (nodes, [[pair], run])), (read_pairs, (nodes, "a.1>c a.2>b")), (read_run, (nodes, [run])),
     ]
 
 
@@ -94,7 +110,7 @@ class ArgumentsTest(unittest.TestCase):
     def test_results_are_new(self):
         run = sample_run()
         calls = answered_calls(NODES, run)
-        self.assertEqual(len({function for function, _ in calls}), 23)
+        self.assertEqual(len({function for function, _ in calls}), 37)
         for function, arguments in calls:
             first = function(*arguments)
             expected = copy.deepcopy(first)
@@ -141,7 +157,7 @@ class ArgumentsTest(unittest.TestCase):
         self.assertEqual(path_between(NODES, run, 0, 2), [0, 2])
         run[2] = ("open", "b", ("a", True))
         for function, arguments in answered_calls(NODES, sample_run()):
-            if function not in (is_nodes, is_run, is_label, start_label, label_after_send, label_after_open):
+            if function not in WITHOUT_RUN:
                 self.assertIs(told(function, *(arguments[:1] + (run,) + arguments[2:]))[0], InvalidRun)
 
     def test_nodes_that_are_changed_in_place(self):

@@ -30,7 +30,7 @@ class ExamplesTest(unittest.TestCase):
 
     def test_examples(self):
         examples = read_examples()
-        self.assertEqual(len(examples), 27)
+        self.assertEqual(len(examples), 42)
         for code, expected in examples:
             names = {}
             exec("\n".join(code[:-1]), names)

@@ -31,7 +31,7 @@ class FilesTest(unittest.TestCase):
         for name in names:
             self.assertRegex(name, r"^[a-z_][a-z0-9_]*\.py$")
         for name in ("__init__.py", "errors.py", "runs.py", "order.py", "lists.py", "labels.py", "nets.py", "needs.py",
-                     "reasons.py"):
+                     "reasons.py", "proposals.py", "openings.py", "texts.py", "desk.py"):
             self.assertIn(name, names)
 
     def test_characters(self):
@@ -76,7 +76,11 @@ class FilesTest(unittest.TestCase):
                            "same_past"]),
                 ("lists", ["known_counts", "label_of_message", "waitlist_of"]),
                 ("labels", ["is_label", "label_after_open", "label_after_send", "start_label"]), ("nets", ["Net"]),
-                ("needs", ["is_needing_run", "needing_run"]), ("reasons", ["is_reason", "reason_for"])):
+                ("needs", ["is_needing_run", "needing_run"]), ("reasons", ["is_reason", "reason_for"]),
+                ("proposals", ["harmful_run", "missing_pairs", "spare_pairs"]),
+                ("openings", ["closed_messages", "count_openings", "is_opening", "longest_run", "longest_size",
+                              "next_opens", "nth_opening"]),
+                ("texts", ["read_pairs", "read_run", "show_pairs", "show_run"]), ("desk", ["Desk"])):
             body = ast.parse(read(os.path.join(FOLDER, name + ".py"))).body
             defined = [part.name for part in body if isinstance(part, (ast.FunctionDef, ast.ClassDef))]
             self.assertEqual(sorted(set(expected) - set(defined)), [], name)

@@ -1,17 +1,23 @@
 """Point 4: runs of 150 events of 12 nodes, nets with 150 calls and 300 receivers, and somewhat more."""
 
 import unittest
+from math import factorial
 
 from tests import oracle
 from tests.samples import Choices, all_pairs, long_run, made_run
-from waitlists.errors import Needed, NotNeeded
+from waitlists.desk import Desk
+from waitlists.errors import InvalidIndex, InvalidProposal, InvalidText, Needed, NotNeeded, TooMany
 from waitlists.labels import is_label, label_after_open, label_after_send, start_label
 from waitlists.lists import known_counts, label_of_message, waitlist_of
 from waitlists.needs import is_needing_run, needing_run
 from waitlists.nets import Net
+from waitlists.openings import (closed_messages, count_openings, is_opening, longest_run, longest_size, next_opens,
+                                nth_opening)
 from waitlists.order import first_early_open, happens_before, is_causal, is_path, past_events, path_between, same_past
+from waitlists.proposals import harmful_run, missing_pairs, spare_pairs
 from waitlists.reasons import is_reason, reason_for
 from waitlists.runs import is_run, messages_of, open_index, send_index
+from waitlists.texts import read_pairs, read_run, show_pairs, show_run
 
 TWELVE = ["a", "b", "c", "d", "e", "f", "g", "hh", "iii", "jjjjjjjj", "kkkkkkkk", "zzzzzzzz"]
 
@@ -194,6 +200,193 @@ class LimitsOfNetsTest(unittest.TestCase):
         for message, node in net.in_transit()[::-1]:
             net.arrive_at(message, node)
         self.assert_settled(net, 275)
+
+
+class LimitsOfProposalsTest(unittest.TestCase):
+
+    def test_proposals_of_150_pairs(self):
+        for run in limit_runs().values():
+            pairs = all_pairs(run)
+            for node in ("a", "zzzzzzzz"):
+                waitlist = waitlist_of(TWELVE, run, node)
+                for proposal in ([], pairs[:150], pairs[-150:], waitlist, waitlist[1:], waitlist[:-1]):
+                    missing = [pair for pair in waitlist if pair not in proposal]
+                    self.assertEqual(missing_pairs(TWELVE, run, node, proposal), missing)
+                    self.assertEqual(spare_pairs(TWELVE, run, node, proposal),
+                                     [pair for pair in proposal if pair not in waitlist])
+                    found = harmful_run(TWELVE, run, node, proposal)
+                    if missing:
+                        self.assertIs(is_needing_run(TWELVE, run, node, missing[0], found), True)
+                    else:
+                        self.assertIsNone(found)
+                self.assertRaises(InvalidProposal, missing_pairs, TWELVE, run, node, pairs[:149][::-1] + [pairs[0]])
+
+    def test_waitlist_of_the_greatest_size(self):
+        run = limit_runs()["greatest"]
+        waitlist = waitlist_of(TWELVE, run, "a")
+        self.assertEqual(len(waitlist), 121)
+        self.assertEqual(missing_pairs(TWELVE, run, "a", []), waitlist)
+        self.assertEqual(spare_pairs(TWELVE, run, "c", waitlist)[:2], waitlist[:2])
+
+
+def twelve_closed(relations):
+    """Return a run in which twelve messages to a are closed: each sender knows those that it is said to follow.
+
+    The senders are eleven nodes, and the first one sends two of the messages.
+    """
+    run = []
+    numbers = {node: 0 for node in TWELVE}
+    for node in TWELVE[1:] + TWELVE[1:2]:
+        for other in relations.get(node, []):
+            run.append(("send", other, [node]))
+            numbers[other] += 1
+            run.append(("open", node, (other, numbers[other])))
+        run.append(("send", node, ["a"]))
+        numbers[node] += 1
+    return run
+
+
+class LimitsOfOrdersTest(unittest.TestCase):
+
+    def assert_orders(self, run, many):
+        """Assert that the closed messages of a have so many orders, and that some of them are in order."""
+        self.assertEqual(len(closed_messages(TWELVE, run, "a")), 12)
+        self.assertEqual(count_openings(TWELVE, run, "a"), many)
+        numbers = sorted({0, 1, 2, many // 7, many // 3, many // 2, many // 2 + 1, many - 2, many - 1})
+        orders = [nth_opening(TWELVE, run, "a", number) for number in numbers if 0 <= number < many]
+        self.assertEqual(orders, sorted(orders))
+        for first, second in zip(orders, orders[1:]):
+            self.assertNotEqual(first, second)
+        for order in orders:
+            self.assertEqual(sorted(order), closed_messages(TWELVE, run, "a"))
+            self.assertIs(is_opening(TWELVE, run, "a", order), True)
+        for number in (-1, many, many + 1, factorial(12)):
+            self.assertRaises(InvalidIndex, nth_opening, TWELVE, run, "a", number)
+        return orders
+
+    def test_any_order(self):
+        run = twelve_closed({})
+        orders = self.assert_orders(run, factorial(12) // 2)
+        messages = closed_messages(TWELVE, run, "a")
+        self.assertEqual(orders[0], messages)
+        self.assertEqual(orders[1], messages[:-2] + [messages[-1], messages[-2]])
+        self.assertEqual(orders[-1], messages[2:][::-1] + messages[:2])
+        self.assertEqual(next_opens(TWELVE, run), [("a", (node, 1)) for node in TWELVE[1:]])
+
+    def test_two_rows_side_by_side(self):
+        rows = [TWELVE[1:7], TWELVE[7:]]
+        relations = {second: [first] for row in rows for first, second in zip(row, row[1:])}
+        run = [("send", "b", ["a"])] * 6 + [("send", "c", ["a"])] * 6
+        self.assert_orders(run, factorial(12) // factorial(6) ** 2)
+        # The second message of the first node comes at any of six places in its row, and this row at any in the other.
+        self.assert_orders(twelve_closed(relations), 6 * factorial(12) // factorial(7) // factorial(5))
+
+    def test_one_first_then_any_order(self):
+        run = twelve_closed({node: ["b"] for node in TWELVE[2:]})
+        self.assert_orders(run, factorial(11))
+
+    def test_one_order_alone(self):
+        self.assert_orders([("send", "b", ["a"])] * 12, 1)
+        run = [("send", "b", ["a"])] * 13
+        self.assertRaises(TooMany, count_openings, TWELVE, run, "a")
+        self.assertRaises(TooMany, nth_opening, TWELVE, run, "a", 0)
+
+    def test_at_the_end_of_a_run_of_150_events(self):
+        run = [("send", "b", ["c"])] * 138 + [("send", node, ["a"]) for node in TWELVE[1:]]
+        run.append(("send", "b", ["a"]))
+        self.assertEqual(len(run), 150)
+        self.assert_orders(run, factorial(12) // 2)
+
+    def test_150_closed_messages(self):
+        for run in limit_runs().values():
+            sends, before = oracle.sent_messages(run), oracle.earlier_events(run)
+            possible = []
+            for node in TWELVE:
+                closed = oracle.closed(run, node)
+                self.assertEqual(closed_messages(TWELVE, run, node), closed)
+                indices = {sends[message] for message in closed}
+                possible += [(node, message) for message in closed if not indices & before[sends[message]]]
+            self.assertEqual(next_opens(TWELVE, run), possible)
+        run = limit_runs()["sends"]
+        order = [("a", number) for number in range(1, 151)]
+        self.assertIs(is_opening(TWELVE, run, "zzzzzzzz", order), True)
+        self.assertIs(is_opening(TWELVE, run, "zzzzzzzz", order[:-2] + order[-2:][::-1]), False)
+        self.assertIs(is_opening(TWELVE, run, "zzzzzzzz", order[:-1]), False)
+
+    def test_longest_waitlist(self):
+        self.assertEqual(longest_size(TWELVE), 121)
+        for node in TWELVE:
+            run = longest_run(TWELVE, node)
+            self.assertEqual(waitlist_of(TWELVE, run, node), oracle.waitlist(run, node))
+            self.assertEqual([len(waitlist_of(TWELVE, run, node)), first_early_open(TWELVE, run)], [121, None])
+
+
+class LimitsOfTextsTest(unittest.TestCase):
+
+    def test_runs(self):
+        for run in limit_runs().values():
+            text = show_run(TWELVE, run)
+            self.assertEqual(text, oracle.run_text(run))
+            self.assertEqual(read_run(TWELVE, text), run)
+            self.assertEqual(read_pairs(TWELVE, show_pairs(TWELVE, all_pairs(run))), all_pairs(run))
+
+    def test_texts_of_4000_characters(self):
+        text = " ".join(["a>b"] * 1000)
+        self.assertEqual(len(text), 3999)
+        self.assertEqual(read_run(TWELVE, text), [("send", "a", ["b"])] * 1000)
+        self.assertRaises(InvalidText, read_run, TWELVE, text + " ")
+        self.assertRaises(InvalidText, read_run, TWELVE, text[:-1] + ",")
+        pairs = [(("a", number), "b") for number in range(1, 550)]
+        text = show_pairs(TWELVE, pairs)
+        self.assertEqual(len(text), 4283)
+        self.assertEqual(read_pairs(TWELVE, text), pairs)
+        self.assertRaises(InvalidText, read_pairs, TWELVE, text + " a.549>b")
+
+    def test_numbers_of_many_digits(self):
+        for digits in (18, 500, 3995):
+            text = "a." + "7" * digits + ">b"
+            pairs = read_pairs(TWELVE, text)
+            self.assertEqual(pairs[0][0][1] * 9, 7 * (10 ** digits - 1))
+            self.assertEqual(show_pairs(TWELVE, pairs), text)
+        pairs = [(("a", 10 ** 18 - 150 + number), "zzzzzzzz") for number in range(150)]
+        self.assertEqual(read_pairs(TWELVE, show_pairs(TWELVE, pairs)), pairs)
+
+    def test_other_texts_of_4000_characters(self):
+        for text in ("a" * 4000, ">" * 4000, "a>" + "b," * 1999, "." * 4000, "0" * 4000, "9" * 4000, "b<a." + "9" * 3996,
+                     " " * 4000, "b<a.1 " * 666, "a>b " * 1000, "a.1>b " * 666, "<" * 4000, "," * 4000):
+            self.assertRaises(InvalidText, read_run, TWELVE, text)
+            self.assertRaises(InvalidText, read_pairs, TWELVE, text)
+
+
+class LimitsOfDesksTest(unittest.TestCase):
+
+    def test_150_calls_with_300_receivers(self):
+        desk, net = Desk(), Net(TWELVE)
+        desk.execute("nodes " + " ".join(TWELVE))
+        choices = Choices(9)
+        sends = 0
+        for call in range(150):
+            transit = net.in_transit()
+            if sends == 27 or transit and call % 5:
+                message, node = choices.one_of(transit)
+                opened = net.arrive_at(message, node)
+                found = desk.execute(f"arrive {oracle.message_text(message)} {node}")
+                self.assertEqual(found, " ".join(oracle.message_text(each) for each in opened) or "held")
+            else:
+                node = TWELVE[sends % 12]
+                net.send_message(node, others_than(node))
+                desk.execute(" ".join(["send", node] + others_than(node)))
+                sends += 1
+        for _ in range(2):
+            run = net.recorded_run()
+            self.assertEqual(desk.execute("run"), oracle.run_text(run))
+            for node in TWELVE:
+                waitlist = net.label_at(node)[1]
+                self.assertEqual(desk.execute("waitlist " + node), oracle.pairs_text(waitlist) or "empty")
+                for message, receiver in all_pairs(run)[::11]:
+                    found = desk.execute(f"reason {oracle.message_text(message)} {node} {receiver}")
+                    self.assertEqual(found == "needed", (message, receiver) in waitlist)
+            self.assertEqual(desk.execute("settle"), str(net.settle_all()))
 
 
 if __name__ == "__main__":

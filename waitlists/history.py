@@ -1,10 +1,10 @@
 """A run with what follows from it: which events happen before which (point 9)."""
 
-from waitlists.runs import check_run, read_run
+from waitlists.runs import check_run, scan_run
 
 
 class History:
-    """The order of the events of a valid run; `sends` and `opens` are those that `read_run` returns for it.
+    """The order of the events of a valid run; `sends` and `opens` are those that `scan_run` returns for it.
 
     A set of events is kept as a mask: an integer whose bit k is 1 if event k is in the set. The past of
     an event is the mask of the event itself and of all events that happen before it.
@@ -55,7 +55,7 @@ class History:
 
 def read_history(nodes, value):
     """Return the history of any value that is a run of the nodes, or None if it is not."""
-    events = read_run(nodes, value)
+    events = scan_run(nodes, value)
     if events is None:
         return None
     sends, opens = events

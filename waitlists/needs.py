@@ -9,27 +9,13 @@ from waitlists.runs import check_node, check_pair, find_send
 
 def needing_run(nodes, run, node, pair):
     """Return a needing run for the node and the pair of its waitlist."""
-    history, others = _check_needed(nodes, run, node, pair)
-    receiver = pair[1]
-    past = history.last_pasts[node]
-    found = [_copied_event(run[index]) for index in events_in(past)]
-    # The messages to the receiver up to the other ones that are paired with it. The message of the pair is not
-    # among them: if it were sent before one of the others, it would not be in the waitlist.
-    wanted = 0
-    for message in others:
-        wanted |= history.pasts[find_send(history.sends, message)]
-    for index in events_in(wanted):
-        kind, _, detail = run[index]
-        if kind == "send" and receiver in detail and not _is_opened_in(history, past, index, receiver):
-            found.append(("open", receiver, history.message_at(index)))
-    found.append(("send", node, [receiver]))
-    found.append(("open", receiver, (node, len(history.sends[node]) + 1)))
-    return found
+    history, waitlist = _check_needed(nodes, run, node, pair)
+    return build_needing_run(history, node, pair, waitlist)
 
 
 def is_needing_run(nodes, run, node, pair, value):
     """Return whether any value is a needing run for the node and the pair of its waitlist."""
-    history, others = _check_needed(nodes, run, node, pair)
+    history, waitlist = _check_needed(nodes, run, node, pair)
     message, receiver = pair
     judged = read_history(nodes, value)
     if judged is None or not _ends_with_open(judged, node, receiver):
@@ -44,11 +30,31 @@ def is_needing_run(nodes, run, node, pair, value):
     opened = judged.opens[receiver]
     if find_send(judged.sends, message) in opened:
         return False
-    return all([find_send(judged.sends, other) in opened for other in others])
+    return all([find_send(judged.sends, other) in opened for other in _other_messages(waitlist, pair)])
+
+
+def build_needing_run(history, node, pair, waitlist):
+    """Return a needing run for the node and the pair of its waitlist; nothing is checked."""
+    run = history.run
+    receiver = pair[1]
+    past = history.last_pasts[node]
+    found = [_copied_event(run[index]) for index in events_in(past)]
+    # The messages to the receiver up to the other ones that are paired with it. The message of the pair is not
+    # among them: if it were sent before one of the others, it would not be in the waitlist.
+    wanted = 0
+    for message in _other_messages(waitlist, pair):
+        wanted |= history.pasts[find_send(history.sends, message)]
+    for index in events_in(wanted):
+        kind, _, detail = run[index]
+        if kind == "send" and receiver in detail and not _is_opened_in(history, past, index, receiver):
+            found.append(("open", receiver, history.message_at(index)))
+    found.append(("send", node, [receiver]))
+    found.append(("open", receiver, (node, len(history.sends[node]) + 1)))
+    return found
 
 
 def _check_needed(nodes, run, node, pair):
-    """Return the history of the run, and the other messages that are paired with the receiver in the waitlist.
+    """Return the history of the run, and the waitlist of the node.
 
     Raise InvalidNodes, InvalidRun, NotCausal, UnknownNode, InvalidPair, then NotNeeded if the pair is not in
     the waitlist of the node.
@@ -59,7 +65,12 @@ def _check_needed(nodes, run, node, pair):
     waitlist = waitlist_in(history, history.last_pasts[node])
     if pair not in waitlist:
         raise NotNeeded("the waitlist of the node does not contain this pair")
-    return (history, [message for message, receiver in waitlist if receiver == pair[1] and message != pair[0]])
+    return (history, waitlist)
+
+
+def _other_messages(waitlist, pair):
+    """Return the other messages that are paired with the receiver of the pair in the waitlist."""
+    return [message for message, receiver in waitlist if receiver == pair[1] and message != pair[0]]
 
 
 def _copied_event(event):

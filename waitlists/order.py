@@ -84,7 +84,7 @@ def find_path(history, first, second):
 
 
 def is_path_of(run, opens, value):
-    """Return whether any value is a path of the run, of which `read_run` returns these opens."""
+    """Return whether any value is a path of the run, of which `scan_run` returns these opens."""
     if not isinstance(value, list) or not value:
         return False
     for entry in value:

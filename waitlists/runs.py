@@ -19,7 +19,7 @@ def is_nodes(value):
 def is_run(nodes, value):
     """Return whether any value is a run of the nodes."""
     check_nodes(nodes)
-    return read_run(nodes, value) is not None
+    return scan_run(nodes, value) is not None
 
 
 def messages_of(nodes, run):
@@ -41,6 +41,11 @@ def open_index(nodes, run, message, node):
     sent = check_message(sends, message)
     check_node(nodes, node)
     return opens[node].get(sent)
+
+
+def is_name(text):
+    """Return whether a string is a name."""
+    return len(text) <= 8 and text.isascii() and text.isalpha() and text.islower()
 
 
 def is_integer(value):
@@ -78,7 +83,7 @@ def is_message(nodes, value):
 
 
 def find_send(sends, value):
-    """Return the index of the send of any value that is a message, or None; `sends` is that of `read_run`."""
+    """Return the index of the send of any value that is a message, or None; `sends` is that of `scan_run`."""
     if not isinstance(value, tuple) or len(value) != 2:
         return None
     sender, number = value
@@ -88,7 +93,15 @@ def find_send(sends, value):
     return own[number - 1] if 0 < number <= len(own) else None
 
 
-def read_run(nodes, value):
+def find_pair(sends, run, value):
+    """Return the index of the send of the message of any value that is a pair of the run, or None."""
+    if not isinstance(value, tuple) or len(value) != 2:
+        return None
+    sent = find_send(sends, value[0])
+    return sent if sent is not None and value[1] in run[sent][2] else None
+
+
+def scan_run(nodes, value):
     """Return the sends and the opens of any value that is a run, as two dicts, or None if it is not.
 
     The first dict has for each node the list of the indices of its sends. The second one has for
@@ -136,9 +149,9 @@ def check_nodes(nodes):
 
 
 def check_run(nodes, run):
-    """Return what `read_run` returns; raise InvalidNodes, then InvalidRun, if these are not nodes and a run of them."""
+    """Return what `scan_run` returns; raise InvalidNodes, then InvalidRun, if these are not nodes and a run of them."""
     check_nodes(nodes)
-    events = read_run(nodes, run)
+    events = scan_run(nodes, run)
     if events is None:
         raise InvalidRun("a run is a list of sends and of opens of messages that were sent to the node")
     return events
@@ -166,8 +179,7 @@ def check_message(sends, message):
 
 def check_pair(sends, run, pair):
     """Return the index of the send of the message of the pair; raise InvalidPair if it is not a pair of the run."""
-    if isinstance(pair, tuple) and len(pair) == 2:
-        sent = find_send(sends, pair[0])
-        if sent is not None and pair[1] in run[sent][2]:
-            return sent
-    raise InvalidPair("this is not a message of the run with one of its receivers")
+    sent = find_pair(sends, run, pair)
+    if sent is None:
+        raise InvalidPair("this is not a message of the run with one of its receivers")
+    return sent
